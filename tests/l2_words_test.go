@@ -6,7 +6,6 @@ import (
 	"slices"
 	"strings"
 	"testing"
-	"unsafe"
 
 	"loop.example/copiedtexts/impl"
 )
@@ -508,34 +507,6 @@ func TestP95WordCountsOfSomeTexts(t *testing.T) {
 	}
 }
 
-// overlap reports whether two strings share memory. It is of no use for strings of one byte, which Go keeps in one place, never written to.
-func overlap(a string, b string) bool {
-	if len(a) < 2 || len(b) < 2 {
-		return false
-	}
-	fromA := uintptr(unsafe.Pointer(unsafe.StringData(a)))
-	fromB := uintptr(unsafe.Pointer(unsafe.StringData(b)))
-	return fromA < fromB+uintptr(len(b)) && fromB < fromA+uintptr(len(a))
-}
-
-func checkNoOverlap(t *testing.T, what string, answers []string, arguments []string) {
-	t.Helper()
-	for i, a := range answers {
-		for _, b := range append(slices.Clone(arguments), answers[:i]...) {
-			if overlap(a, b) {
-				t.Fatalf("%s: %q shares memory with %q", what, a, b)
-			}
-		}
-	}
-}
-
-func TestOverlapIsSeen(t *testing.T) {
-	s := strings.Clone("the sea")
-	if !overlap(s, s) || !overlap(s, s[4:]) || !overlap(s[:3], s[1:]) || overlap(s[:3], s[4:]) || overlap(s, strings.Clone(s)) {
-		t.Fatal("memory that is shared is not seen")
-	}
-}
-
 func TestWordTextsOwnTheirMemory(t *testing.T) {
 	s := strings.Clone("the sea the old sea of stones")
 	words := impl.WordsOf(s)
@@ -550,15 +521,6 @@ func TestWordTextsOwnTheirMemory(t *testing.T) {
 		counted, _ := impl.WordCounts(list)
 		checkNoOverlap(t, "WordCounts", counted, list)
 	}
-}
-
-// scribbled returns a list after all that it can reach is overwritten.
-func scribbled[T any](list []T, with T) []T {
-	list = list[:cap(list)]
-	for i := range list {
-		list[i] = with
-	}
-	return list
 }
 
 func TestWordListsOwnTheirMemory(t *testing.T) {
