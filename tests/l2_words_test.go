@@ -38,11 +38,7 @@ func longWordTexts() []string {
 	texts := longTexts()
 	d := &drawn{state: 2}
 	for _, alphabet := range []string{"aB.!? ,\x80", "ab c.", ".!?, a", "abcdefgh "} {
-		list := make([]byte, 1000)
-		for i := range list {
-			list[i] = alphabet[d.below(len(alphabet))]
-		}
-		texts = append(texts, string(list))
+		texts = append(texts, textOfBytes(d, alphabet, 1000))
 	}
 	return append(texts, strings.Repeat("a ", 500), strings.Repeat("a.", 500), strings.Repeat("?!", 500))
 }

@@ -70,6 +70,15 @@ func drawnText(d *drawn, n int, gaps int) string {
 	return string(list)
 }
 
+// textOfBytes returns a text of n drawn bytes of an alphabet.
+func textOfBytes(d *drawn, alphabet string, n int) string {
+	list := make([]byte, n)
+	for i := range list {
+		list[i] = alphabet[d.below(len(alphabet))]
+	}
+	return string(list)
+}
+
 // longTexts returns texts of up to 1000 bytes with few gaps, many gaps, and gaps alone.
 func longTexts() []string {
 	d := &drawn{state: 1}
