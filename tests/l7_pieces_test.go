@@ -89,8 +89,8 @@ func longPairs() [][2]string {
 	return pairs
 }
 
-// piecesByShifts lays one text beside the other one in all ways, and cuts where there are different bytes.
-func piecesByShifts(a string, b string, n int) []impl.Piece {
+// piecesOnShifts lays one text beside the other one in all ways, and cuts where there are different bytes.
+func piecesOnShifts(a string, b string, n int) []impl.Piece {
 	var list []impl.Piece
 	for shift := 1 - len(b); shift < len(a); shift++ {
 		end := min(len(a), shift+len(b))
@@ -106,6 +106,11 @@ func piecesByShifts(a string, b string, n int) []impl.Piece {
 			long = 0
 		}
 	}
+	return list
+}
+
+func piecesByShifts(a string, b string, n int) []impl.Piece {
+	list := piecesOnShifts(a, b, n)
 	slices.SortFunc(list, comparePieces)
 	return list
 }
